@@ -28,6 +28,27 @@ INTERFACE = {
               "split_address": ["word"]},
     "offers": {"read_offer": ["words"], "write_offer": ["offer"], "answer": ["able", "offer"], "held": ["offer"],
                "flows": ["offer", "answered"]},
+    "letters": {"Letter": ["verb", "call", "origin", "origin_tag", "target", "target_tag", "seq", "way", "code", "offer",
+                           "stay", "goal"], "write": ["letter"], "read": ["text"]},
+    "clients": {"Client": ["letter", "place", "now", "first"]},
+    "servers": {"Server": ["letter", "place", "first"]},
+    "legs": {"Leg": ["tag", "call", "own", "other", "place", "able", "first", "check", "seq"]},
+    "places": {"Places": ["users", "stations", "longest"]},
+    "tariffs": {"Tariff": ["unit", "bands", "last"]},
+    "journal": {"checksum": ["text"], "sealed": ["text"], "read_journal": ["text"], "Journal": []},
+}
+# The methods of each class that the interface lists, and their parameters behind self.
+CLASSES = {
+    "Letter": {"parts": [], "reply": ["code", "tag", "offer", "stay"]},
+    "Client": {"sending": [], "take": ["reply", "now"], "stop": ["now"], "tick": ["now"], "is_over": []},
+    "Server": {"matches": ["letter", "place"], "again": [], "reply": ["letter", "now"], "keep": ["now"],
+               "tick": ["now"], "is_over": []},
+    "Leg": {"call_out": ["offer", "now"], "call_in": ["letter"], "ring": ["now"], "accept": ["offer", "now"],
+            "refuse": ["code", "now"], "hang_up": ["now"], "turn": ["offer", "now"], "move": ["goal", "now"],
+            "receive": ["letter", "place", "now"], "tick": ["now"], "take_events": [], "is_done": []},
+    "Places": {"sign": ["user", "place", "seq", "stay", "now"], "of": ["user", "now"], "bindings": ["now"]},
+    "Tariff": {"units": ["span"], "cost": ["span"]},
+    "Journal": {"append": ["text"], "sync": [], "after_crash": ["kept"]},
 }
 
 
@@ -131,6 +152,13 @@ class LanguageTest(unittest.TestCase):
                 self.assertNotIn(bound, dir(builtins), name)
                 self.assertNotIn(bound, NEVER_NAMES, name)
 
+    def test_imports_and_classes_keep_their_names(self):
+        for name, tree in self.trees.items():
+            fixed = [alias.name for node in ast.walk(tree) if isinstance(node, ast.ImportFrom) for alias in node.names]
+            fixed += [node.name for node in tree.body if isinstance(node, ast.ClassDef)]
+            for bound in bound_names(tree):
+                self.assertLessEqual(bound_names(tree).count(bound), 1 if bound in fixed else 999, f"{name}: {bound}")
+
     def test_barred_words(self):
         for place, node in self.each_node(ast.Name, ast.Attribute, ast.arg, ast.keyword):
             word = getattr(node, "id", None) or getattr(node, "attr", None) or getattr(node, "arg", None)
@@ -163,3 +191,19 @@ class LanguageTest(unittest.TestCase):
                 if parameters is not None:
                     found = inspect.signature(getattr(loaded, name)).parameters
                     self.assertEqual(list(found), parameters, name)
+
+    def test_methods_stand_in_the_body_of_their_class(self):
+        bodies = {node.name: node for _, node in self.each_node(ast.ClassDef)}
+        for name, methods in CLASSES.items():
+            found = {node.name: [part.arg for part in node.args.args][1:] for node in bodies[name].body
+                     if isinstance(node, ast.FunctionDef)}
+            for method, parameters in methods.items():
+                self.assertEqual(found.get(method), parameters, f"{name}.{method}")
+
+    def test_no_name_is_a_method_and_an_attribute_of_one_class(self):
+        for place, body in self.each_node(ast.ClassDef):
+            methods = [node.name for node in body.body if isinstance(node, ast.FunctionDef)]
+            self.assertEqual(len(methods), len(set(methods)), place)
+            for node in ast.walk(body):
+                if isinstance(node, ast.Attribute) and isinstance(node.ctx, ast.Store):
+                    self.assertNotIn(node.attr, methods, place)
