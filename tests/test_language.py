@@ -36,6 +36,15 @@ INTERFACE = {
     "places": {"Places": ["users", "stations", "longest"]},
     "tariffs": {"Tariff": ["unit", "bands", "last"]},
     "journal": {"checksum": ["text"], "sealed": ["text"], "read_journal": ["text"], "Journal": []},
+    "ledger": {"Ledger": ["tariff"], "recover": ["tariff", "text", "now"]},
+    "config": {"Config": ["host", "users", "stations", "tariff", "first", "patience", "check", "longest", "most_calls",
+                          "save"]},
+    "calls": {"tell": ["events"]},
+    "exchange": {"start": ["config"], "restart": ["config", "text", "now", "restarts"], "Exchange": None},
+    "phones": {"Phone": ["place", "user", "host", "able", "first", "check", "patience", "auto"]},
+    "network": {"World": ["config", "phones", "fates", "slowest"]},
+    "bounds": {"quiet_bound": ["config"], "settle_bound": ["config", "phones", "slowest"]},
+    "judging": {"judge": ["events", "tariff", "bills", "pending"]},
 }
 # The methods of each class that the interface lists, and their parameters behind self.
 CLASSES = {
@@ -49,6 +58,13 @@ CLASSES = {
     "Places": {"sign": ["user", "place", "seq", "stay", "now"], "of": ["user", "now"], "bindings": ["now"]},
     "Tariff": {"units": ["span"], "cost": ["span"]},
     "Journal": {"append": ["text"], "sync": [], "after_crash": ["kept"]},
+    "Ledger": {"begin": ["number", "caller", "callee", "now"], "finish": ["number", "now"], "is_open": ["number"],
+               "bills": [], "pending": [], "greatest": []},
+    "Exchange": {"receive": ["text", "place", "now"], "hang_up": ["number", "now"], "tick": ["now"], "is_quiet": []},
+    "Phone": {"sign": ["stay", "now"], "dial": ["user", "now"], "answer": ["now"], "hang_up": ["now"], "hold": ["now"],
+              "resume": ["now"], "move": ["user", "now"], "receive": ["text", "place", "now"], "tick": ["now"],
+              "state": [], "is_quiet": []},
+    "World": {"step": ["commands"], "is_quiet": []},
 }
 
 

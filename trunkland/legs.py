@@ -36,7 +36,7 @@ class Leg:
         self.state = "new"
         self._seq = seq
         self._requests = 0
-        self._took_call = False
+        self.took_call = False
         self._greatest_taken = -1
         self._clients = []
         self._servers = []
@@ -54,7 +54,7 @@ class Leg:
     def call_in(self, letter):
         """Take a CALL."""
         self.state = "offered"
-        self._took_call = True
+        self.took_call = True
         self.other_tag = letter.origin_tag
         self._serve(letter, self.place)
 
@@ -226,7 +226,7 @@ class Leg:
         if self.state == "offered":
             self._end("stopped", STOPPED)
             return self._reply_to_call(now, STOPPED) + self._reply(server, now, YES)
-        is_answered = self.state == "talking" and self._took_call
+        is_answered = self.state == "talking" and self.took_call
         return self._reply(server, now, YES if is_answered else NO_CALL)
 
     def _take_turn(self, server, now):
