@@ -2,8 +2,10 @@
 
 from exchange_help import ABLE, THEIRS, ExchangeCase, make_config
 
+from trunkland.config import Config
 from trunkland.exchange import restart, start
 from trunkland.letters import Letter, read, write
+from trunkland.tariffs import Tariff
 
 REQUESTS = ["STOP", "END", "TURN", "MOVE", "LIVE"]
 VERBS = ["CALL", "KEEP", *REQUESTS, "SIGN"]
@@ -422,6 +424,16 @@ class BelongingTest(ExchangeCase):
 
 
 class MakingTest(ExchangeCase):
+    def test_example(self):
+        exchange = start(Config(host="x", users=["bob"], stations=["p", "q"], tariff=Tariff(1, [], 1)))
+        sign = "request SIGN\ncall s1\nfrom bob@x s\nto bob@x\nseq 1\nway s1\nstay 90\n"
+        reply = "reply 20 SIGN\ncall s1\nfrom bob@x s\nto bob@x x0n0\nseq 1\nway s1\nstay 90\n"
+        self.assertEqual(exchange.receive(sign, "q", 0), [("q", reply)])
+        call = "request CALL\ncall c1\nfrom ann@x t1\nto bob@x\nseq 1\nway t1w1\noffer 40 both a\n"
+        told = "request CALL\ncall x0n2c\nfrom ann@x x0n2\nto bob@x\nseq 1\nway x0n2w1\noffer 40 both a\n"
+        self.assertEqual(exchange.receive(call, "p", 1), [("q", told)])
+        self.assertEqual(exchange.events, [("begin", 1, 1, "ann@x", "bob@x")])
+
     def test_start(self):
         config = make_config()
         exchange = start(config)

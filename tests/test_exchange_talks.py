@@ -110,6 +110,13 @@ class TurnTest(TalkCase):
         self.assertEqual(self.tick(), ["p END x0n1>p1 2", "q END x0n2>z1 2"])
         self.assertEqual(self.news(), [("end", 2 * LIMIT, 1, "lost")])
 
+    def test_letters_without_a_tag_from_the_callee(self):
+        """Only a leg that took a CALL is found without its tag."""
+        self.ask(self.bob, "STOP", target_tag="")
+        self.check(["q 41 STOP z1>x0n0 1"])
+        self.ask(self.bob, "CALL", target_tag="", seq=90)
+        self.check(["q 50 CALL z1>x0n3 90"], [("begin", 0, 2, "bob@x", "ann@x"), ("end", 0, 2, "refused")])
+
     def test_turn_before_the_answer(self):
         self.make()
         self.sign("bob", "q")

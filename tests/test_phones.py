@@ -410,6 +410,16 @@ class DialTest(PhoneCase):
                 self.reply(18)
                 self.check([], "idle")
 
+    def test_letters_without_a_tag_do_not_find_a_call_that_was_dialed(self):
+        self.dial()
+        self.reply(20, THEIRS)
+        self.told = 2
+        self.called = Letter(**{**vars(self.dialed), "origin": "bob@x", "origin_tag": "x0n1", "target": "ann@x"})
+        self.ask("STOP", "")
+        self.check(["x 41 STOP x0n1>p0 1"], "talking")
+        self.ask("CALL", "", offer=THEIRS)
+        self.check(["x 44 CALL x0n1>p2 2"], "talking")
+
     def test_next_calls(self):
         """The CALLs have the numbers 1, 2, 3, and the tags those of the legs."""
         self.dial()
@@ -563,6 +573,17 @@ class UserTest(PhoneCase):
         self.talk()
         turn = "request TURN\ncall x0n1c\nfrom ann@x p1\nto bob@x x0n1\nseq 1\nway p1w1\noffer 40 send a,b\n"
         self.assertEqual(self.phone.hold(0), [("x", turn)])
+
+    def test_holding_before_the_answer_changes_nothing(self):
+        self.make()
+        self.dial()
+        self.do("hold")
+        self.reply(18)
+        self.do("hold")
+        self.reply(20, THEIRS)
+        self.called = Letter(**{**vars(self.dialed), "origin_tag": "x0n1"})
+        self.ask("TURN", offer=THEIRS)
+        self.assertEqual(self.sent, ["x 20 TURN x0n1>p1 1 [40 both b,a]"])
 
     def test_held_offers(self):
         for mode, held in [("both", "send"), ("send", "send"), ("take", "none"), ("none", "none")]:

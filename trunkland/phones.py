@@ -84,7 +84,8 @@ class Phone:
         if letter is None or place != self.host:
             return []
         if letter.code is not None and self._is_signing(letter.way):
-            return self._take_reply_to_sign(letter, now)
+            self._take_reply_to_sign(letter, now)
+            return []
         leg = self._station.leg_for(letter, place)
         if leg is None:
             return self._receive_without_leg(letter, place, now)
@@ -120,13 +121,10 @@ class Phone:
         return any([client.letter.way == way for client in self._signs])
 
     def _take_reply_to_sign(self, reply, now):
-        sent = []
         for client in self._signs:
             if client.letter.way == reply.way:
-                taken, _ = client.take(reply, now)
-                sent.extend(taken)
+                client.take(reply, now)
         self._forget_signs()
-        return sent
 
     def _forget_signs(self):
         self._signs = [client for client in self._signs if not client.is_over()]

@@ -18,15 +18,17 @@ class SeenCall:
 
     def accept(self, able, now):
         """Answer the call with what a phone is able to do. Return what is sent."""
+        leg = self.leg
         answered = answer(able, self._offer)
         if answered is None:
-            return self.leg.refuse(NO_FORMAT, now)
-        self.leg.able = answered
-        return self.leg.accept(answered, now)
+            return leg.refuse(NO_FORMAT, now)
+        leg.able = answered
+        return leg.accept(answered, now)
 
     def turn(self, offer, now):
         """Turn to another offer if the call is talking. Return what is sent."""
-        if self.leg.state != "talking":
+        leg = self.leg
+        if leg.state != "talking":
             return []
-        self.leg.able = offer
-        return self.leg.turn(offer, now)
+        leg.able = offer
+        return leg.turn(offer, now)
