@@ -156,6 +156,8 @@ class AnyTest(unittest.TestCase):
                 seen[name] = seen.get(name, 0) + 1
             self.check_recovered(run, calls)
             self.check_silence(run)
+            for call in self.check_calls(run.exchange):
+                self.assertIsNotNone(call[6])
         for name in ["begin", "ring", "answer", "turn", "move", "moved", "caller", "callee", "refused", "stopped",
                      "unanswered", "operator", "lost"]:
             self.assertGreater(seen.get(name, 0), 9, name)
@@ -174,8 +176,6 @@ class AnyTest(unittest.TestCase):
             run.now += 1
         self.assertIs(run.exchange.is_quiet(), True)
         self.assertEqual(run.exchange.ledger.pending(), [])
-        for call in self.check_calls(run.exchange):
-            self.assertIsNotNone(call[6])
 
     def test_any_letters_behind_a_restart(self):
         for seed in range(20):
@@ -190,14 +190,7 @@ class AnyTest(unittest.TestCase):
                 self.assertEqual([bill[0] for bill in run.exchange.ledger.bills()], sorted(numbers))
             for _ in range(150):
                 run.step()
-            self.check_silence_of_a_life(run)
-
-    def check_silence_of_a_life(self, run):
-        for _ in range(quiet_bound(run.config) + 1):
-            run.exchange.tick(run.now)
-            run.now += 1
-        self.assertIs(run.exchange.is_quiet(), True)
-        self.assertEqual(run.exchange.ledger.pending(), [])
+            self.check_silence(run)
 
     def test_same_letter_at_once_again(self):
         """Every letter comes twice: what the second one brings is thrown away, and all goes on as if it had not."""

@@ -216,6 +216,11 @@ class LanguageTest(unittest.TestCase):
             for method, parameters in methods.items():
                 self.assertEqual(found.get(method), parameters, f"{name}.{method}")
 
+    def test_attributes_are_assigned_through_plain_names(self):
+        for place, node in self.each_node(ast.Attribute):
+            if isinstance(node.ctx, ast.Store):
+                self.assertIsInstance(node.value, ast.Name, place)
+
     def test_no_name_is_a_method_and_an_attribute_of_one_class(self):
         for place, body in self.each_node(ast.ClassDef):
             methods = [node.name for node in body.body if isinstance(node, ast.FunctionDef)]
